@@ -1,0 +1,1 @@
+"""Restfigures: whole numbers kept as their rests."""
