@@ -38,3 +38,9 @@ def product_of(numbers):
     for number in numbers:
         product *= number
     return product
+
+
+def fitting(base):
+    """The numbers that fit, by the words of point 3 and not by the program's own answers."""
+    span = product_of(base[0])
+    return range(-((span - 1) // 2), span // 2 + 1)

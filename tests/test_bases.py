@@ -5,7 +5,7 @@ import unittest
 
 from restfigures.bases import base_of, common, highest, lowest
 from restfigures.errors import BadBase
-from tests.helpers import GREATEST_KEPT, GREATEST_SPARE, SMALL_BASES, RefusalCase, product_of
+from tests.helpers import GREATEST_KEPT, GREATEST_SPARE, SMALL_BASES, RefusalCase, fitting, product_of
 
 
 class CommonTest(unittest.TestCase):
@@ -185,6 +185,7 @@ class FitTest(unittest.TestCase):
             with self.subTest(kept=kept, spare=spare):
                 span = product_of(kept)
                 numbers = range(lowest((kept, spare)), highest((kept, spare)) + 1)
+                self.assertEqual(numbers, fitting((kept, spare)))
                 self.assertEqual(sorted(number % span for number in numbers), list(range(span)))
 
     def test_the_greatest_divisors(self):

@@ -6,7 +6,7 @@ import unittest
 from restfigures.bases import base_of, highest, lowest
 from restfigures.errors import BadFigure, TooGreat, Wrong
 from restfigures.figures import figure_of, is_right, number_of
-from tests.helpers import GREATEST_KEPT, GREATEST_SPARE, SMALL_BASES, RefusalCase
+from tests.helpers import GREATEST_KEPT, GREATEST_SPARE, SMALL_BASES, RefusalCase, fitting
 
 FAR = (10 ** 20, 10 ** 40, 10 ** 59, 10 ** 60 - 1)
 
@@ -55,7 +55,7 @@ class FigureOfTest(RefusalCase):
 
     def test_each_rest_as_told(self):
         for base in (((3, 5, 7), (11,)), ((5, 2), (9, 7)), ((10,), (11,))):
-            for number in range(lowest(base), highest(base) + 1):
+            for number in fitting(base):
                 with self.subTest(base=base, number=number):
                     rests = [rest_by_steps(number, divisor) for divisor in base[0] + base[1]]
                     self.assertEqual(figure_of(base, number), rests)
@@ -98,15 +98,15 @@ class NumberOfTest(RefusalCase):
     def test_every_number_of_a_small_base_comes_out_again(self):
         for base in SMALL_BASES:
             with self.subTest(base=base):
-                for number in range(lowest(base), highest(base) + 1):
+                for number in fitting(base):
                     figure = figure_of(base, number)
                     self.assertEqual(number_of(base, figure), number)
                     self.assertIs(is_right(base, figure), True)
 
     def test_numbers_of_the_greatest_bases_come_out_again(self):
         for base in greatest_bases():
-            step = max(1, highest(base) // 97)
-            for number in list(range(lowest(base), highest(base), step)) + [-2, -1, 0, 1, 2]:
+            numbers = fitting(base)
+            for number in list(numbers[::numbers[-1] // 97]) + [-2, -1, 0, 1, 2]:
                 with self.subTest(base=base, number=number):
                     figure = figure_of(base, number)
                     self.assertEqual(figure, [number % divisor for divisor in base[0] + base[1]])
@@ -116,7 +116,7 @@ class NumberOfTest(RefusalCase):
     def test_every_figure_of_a_small_base_is_right_or_wrong(self):
         for base in (((2,), ()), ((2, 3), (5, 7)), ((5, 2), (9, 7)), ((3, 5, 7), ()), ((7, 3, 5), (11,))):
             divisors = base[0] + base[1]
-            numbers = range(lowest(base), highest(base) + 1)
+            numbers = fitting(base)
             right = {tuple(number % divisor for divisor in divisors): number for number in numbers}
             for rests in itertools.product(*[range(divisor) for divisor in divisors]):
                 with self.subTest(base=base, rests=rests):
