@@ -1,6 +1,6 @@
 """Bases: tuples (kept, spare) of two tuples of divisors without common parts, and what numbers fit them."""
 
-from restfigures.errors import BadBase
+from restfigures.errors import BadBase, BadPlace
 
 MOST_KEPT = 6
 MOST_SPARE = 4
@@ -46,11 +46,23 @@ def divisors_of(base):
     return base[0] + base[1]
 
 
+def refuse_bad_places(places, count):
+    for place in places:
+        if not 0 <= place < count:
+            raise BadPlace("a place is the number of a divisor that may stand there")
+    if len(set(places)) != len(places):
+        raise BadPlace("no place stands twice")
+
+
+def product_of(numbers):
+    product = 1
+    for number in numbers:
+        product = product * number
+    return product
+
+
 def span_of(base):
-    span = 1
-    for divisor in base[0]:
-        span = span * divisor
-    return span
+    return product_of(base[0])
 
 
 def lowest(base):

@@ -1,6 +1,6 @@
 """Figures: lists of a number's rests by all divisors of a base, and how the number comes out of one."""
 
-from restfigures.bases import divisors_of, fits, highest, span_of
+from restfigures.bases import divisors_of, fits
 from restfigures.errors import BadFigure, TooGreat, Wrong
 
 
@@ -14,6 +14,13 @@ def number_of(base, figure):
     if not is_right(base, figure):
         raise Wrong("the figure is that of no number that fits the base")
     return number_by_kept(base, figure)
+
+
+def numbers_of(base, figures):
+    # Each is looked at for BadFigure ahead of all for Wrong.
+    for figure in figures:
+        refuse_no_figure(base, figure)
+    return [number_of(base, figure) for figure in figures]
 
 
 def is_right(base, figure):
@@ -36,15 +43,20 @@ def refuse_no_figure(base, figure):
 
 def number_by_kept(base, figure):
     # Just one number that fits has these rests by the kept divisors, so the spare rests need no look here.
+    return number_by_rests(base[0], figure[:len(base[0])])
+
+
+def number_by_rests(divisors, rests):
     number = 0
     step = 1
-    for rest, divisor in zip(figure, base[0]):
+    for rest, divisor in zip(rests, divisors):
         # step is a multiple of the divisors already walked, so the rests by those stay as they are.
         steps = (rest - number) * inverse(step, divisor) % divisor
         number = number + steps * step
         step = step * divisor
-    if number > highest(base):
-        return number - span_of(base)
+    # step is the product of all divisors now, and the answer is the one that would fit with this as the span.
+    if number > step // 2:
+        return number - step
     return number
 
 

@@ -1,5 +1,6 @@
-"""What several tests share: bases to test with, and a look at the very class of a refusal."""
+"""What several tests share: bases to test with, what the document's words tell, and looks at what is told."""
 
+import random
 import unittest
 
 from restfigures.errors import RestError
@@ -23,7 +24,33 @@ SMALL_BASES = (
 )
 
 
+# The same, few enough numbers that every pair of them can be walked through.
+PAIR_BASES = (
+    ((2,), ()),
+    ((3,), ()),
+    ((10,), (11,)),
+    ((4, 5), (9,)),
+    ((5, 2), (9, 7)),
+    ((5, 3), (16, 7, 11)),
+    ((3, 2), (7, 5, 13, 11)),
+    ((7, 3, 5), ()),
+)
+
+# Divisors near 10 ** 6 in orders that do not rise, of an odd span and of even ones.
+GREAT_BASES = (
+    (tuple(GREATEST_KEPT), tuple(GREATEST_SPARE)),
+    ((999959, 999809, 999808, 999883, 999907, 999863), (999983, 999961, 999979, 999999)),
+    ((10 ** 6, 999983, 999931, 999979, 999953, 999961), ()),
+    ((999998,), (999999,)),
+)
+
+
 class RefusalCase(unittest.TestCase):
+    def assert_told(self, told, want):
+        """What is told is what is wanted, and of its very kinds too (so True is not 1, nor a tuple a list)."""
+        self.assertEqual(told, want)
+        self.assertEqual(kinds_of(told), kinds_of(want))
+
     def assert_refused(self, error, call, *given):
         """The call raises the error's very class, and leaves the lists handed in as they were."""
         before = [list(one) if isinstance(one, list) else one for one in given]
@@ -44,3 +71,42 @@ def fitting(base):
     """The numbers that fit, by the words of point 3 and not by the program's own answers."""
     span = product_of(base[0])
     return range(-((span - 1) // 2), span // 2 + 1)
+
+
+def fits_by_words(base, number):
+    return number in fitting(base)
+
+
+def rests(base, number):
+    """The number's rests by all divisors, whether it fits or not."""
+    return [number % divisor for divisor in base[0] + base[1]]
+
+
+def ends(base):
+    return (fitting(base)[0], fitting(base)[-1])
+
+
+def drawn(base, count):
+    """Numbers that fit, the same ones at each run: the ends, those about nought, small ones, and any."""
+    source = random.Random(count)
+    numbers = fitting(base)
+    told = [numbers[0], numbers[0] + 1, -1, 0, 1, numbers[-1] - 1, numbers[-1]]
+    while len(told) < count:
+        number = source.randrange(numbers[0], numbers[-1] + 1)
+        told.append(number // source.choice((1, 1, 1, 10, 10 ** 9, 10 ** 18, 10 ** 27)))
+    return [number for number in told if number in numbers]
+
+
+def made_wrong(source, base, number, places):
+    """The number's figure, made wrong at just these places."""
+    divisors = base[0] + base[1]
+    figure = rests(base, number)
+    for place in places:
+        figure[place] = (figure[place] + source.randrange(1, divisors[place])) % divisors[place]
+    return figure
+
+
+def kinds_of(told):
+    if type(told) in (list, tuple):
+        return (type(told), [kinds_of(part) for part in told])
+    return type(told)
