@@ -18,8 +18,7 @@ def number_of(base, figure):
 
 def numbers_of(base, figures):
     # Each is looked at for BadFigure ahead of all for Wrong.
-    for figure in figures:
-        refuse_no_figure(base, figure)
+    refuse_no_figures(base, figures)
     return [number_of(base, figure) for figure in figures]
 
 
@@ -30,6 +29,11 @@ def is_right(base, figure):
 
 def rests_of(base, number):
     return [number % divisor for divisor in divisors_of(base)]
+
+
+def refuse_no_figures(base, figures):
+    for figure in figures:
+        refuse_no_figure(base, figure)
 
 
 def refuse_no_figure(base, figure):

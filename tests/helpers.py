@@ -1,5 +1,6 @@
 """What several tests share: bases to test with, what the document's words tell, and looks at what is told."""
 
+import copy
 import random
 import unittest
 
@@ -52,12 +53,17 @@ class RefusalCase(unittest.TestCase):
         self.assertEqual(kinds_of(told), kinds_of(want))
 
     def assert_refused(self, error, call, *given):
-        """The call raises the error's very class, and leaves the lists handed in as they were."""
-        before = [list(one) if isinstance(one, list) else one for one in given]
+        """The call raises the error's very class, and leaves what is handed in as it was; tells the error."""
+        before = copy.deepcopy(given)
         with self.assertRaises(RestError) as caught:
             call(*given)
         self.assertIs(type(caught.exception), error)
-        self.assertEqual(list(given), before)
+        self.assertEqual(given, before)
+        return caught.exception
+
+    def assert_refused_at(self, error, row, call, *given):
+        """The same, of an error that bears a row."""
+        self.assert_told(self.assert_refused(error, call, *given).row, row)
 
 
 def product_of(numbers):
@@ -104,6 +110,35 @@ def made_wrong(source, base, number, places):
     for place in places:
         figure[place] = (figure[place] + source.randrange(1, divisors[place])) % divisors[place]
     return figure
+
+
+def no_figures(base):
+    """Lists that are no figures: too long, too short, empty, or with a rest that is its divisor, more, or below 0."""
+    one = rests(base, 1)
+    told = [[], one[:-1], one[1:], one + [0], [0] + one, one + one, [0] * 1000]
+    if base[1]:
+        told.append(one[:len(base[0])])
+    for place, divisor in enumerate(base[0] + base[1]):
+        for off in (divisor, divisor + 1, -1, 10 ** 60 - 1, 1 - 10 ** 60):
+            figure = rests(base, 1)
+            figure[place] = off
+            told.append(figure)
+    # No figure, and not right either by the rests at the other places.
+    told.append([0] + one[1:-1] + [-1])
+    return told
+
+
+def wrong_figures(base):
+    """Figures that are not right: one place wrong, each in turn, all spare ones wrong, and numbers one beyond."""
+    source = random.Random(5)
+    kept = len(base[0])
+    count = kept + len(base[1])
+    low, high = ends(base)
+    told = [rests(base, low - 1), rests(base, high + 1)]
+    for number in (low, 0, 1, high):
+        told += [made_wrong(source, base, number, [place]) for place in range(count)]
+        told.append(made_wrong(source, base, number, range(kept, count)))
+    return told
 
 
 def kinds_of(told):

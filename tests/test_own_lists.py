@@ -7,6 +7,9 @@ from restfigures.deeds import added, multiplied, quotient, rest, scaled, taken, 
 from restfigures.digits import compared, digits, sign
 from restfigures.figures import figure_of, is_right, number_of
 from restfigures.mending import mended
+from restfigures.programs import looked, run
+from restfigures.tables import row_product, table_product
+from restfigures.texts import figure_from, figure_text, read, written
 from tests.helpers import RefusalCase, rests
 
 BASE = ((3, 5, 7), (11, 13))
@@ -16,6 +19,9 @@ EIGHT = rests(BASE, 8)
 MINUS_EIGHT = rests(BASE, -8)
 EIGHT_WITH_ONE_WRONG = [0] + EIGHT[1:]
 LOST = [0, 0] + EIGHT[2:]
+PROGRAM = [("in", "x", -8, 9), ("num", "one", 1), ("mul", "y", "x", "one"), ("div", "z", "y", 1),
+           ("add", "w", "x", "z")]
+SQUARE = [("in", "x", -8, 9), ("mul", "y", "x", "x")]
 
 # Among them those whose answer is like what is handed in.
 ASKED = (
@@ -49,19 +55,38 @@ ASKED = (
     (mended, (EIGHT,)),
     (mended, (EIGHT_WITH_ONE_WRONG,)),
     (mended, (LOST,)),
+    (row_product, ([], [])),
+    (row_product, ([EIGHT], [ONE])),
+    (row_product, ([EIGHT, NOUGHT], [ONE, ONE])),
+    (table_product, ([[EIGHT]], [[ONE]])),
+    (table_product, ([[EIGHT, NOUGHT], [NOUGHT, EIGHT]], [[ONE, NOUGHT], [NOUGHT, ONE]])),
+    (run, (PROGRAM, [8])),
+    (run, ([], [])),
+    (looked, (PROGRAM,)),
+    (looked, (SQUARE,)),
+    (looked, ([("num", "n", 53)],)),
+    (figure_text, (EIGHT,)),
+    (figure_text, (LOST,)),
+    (figure_from, ("2.3.1:8.8",)),
+    (written, (MINUS_EIGHT,)),
+    (read, ("8",)),
 )
 
 
 def copied(given):
-    return [list(part) if isinstance(part, list) else part for part in given]
+    """Copies of all lists, so that none in it is one with another."""
+    if isinstance(given, (list, tuple)):
+        parts = [copied(part) for part in given]
+        return parts if isinstance(given, list) else tuple(parts)
+    return given
 
 
 def lists_in(told):
-    if isinstance(told, list):
-        return [told]
-    if isinstance(told, tuple):
-        return [part for part in told if isinstance(part, list)]
-    return []
+    """The list itself, where it is one, and all within it."""
+    if not isinstance(told, (list, tuple)):
+        return []
+    within = [one for part in told for one in lists_in(part)]
+    return [told] + within if isinstance(told, list) else within
 
 
 def spoil(parts):
@@ -76,7 +101,7 @@ class OwnListsTest(RefusalCase):
             given = copied(asked)
             with self.subTest(call=call.__name__, asked=asked):
                 call(BASE, *given)
-                self.assertEqual(given, list(asked))
+                self.assertEqual(given, asked)
                 self.assertEqual(BASE, ((3, 5, 7), (11, 13)))
 
     def test_no_list_told_is_one_with_another(self):
@@ -84,7 +109,7 @@ class OwnListsTest(RefusalCase):
             given = copied(asked)
             with self.subTest(call=call.__name__, asked=asked):
                 told = lists_in(call(BASE, *given)) + lists_in(call(BASE, *given))
-                every = told + [part for part in given if isinstance(part, list)]
+                every = told + lists_in(given)
                 self.assertEqual(len({id(part) for part in every}), len(every))
 
     def test_a_list_told_and_changed_is_told_anew_as_it_was(self):
@@ -93,7 +118,7 @@ class OwnListsTest(RefusalCase):
             with self.subTest(call=call.__name__, asked=asked):
                 want = call(BASE, *copied(asked))
                 spoil(lists_in(call(BASE, *given)))
-                self.assertEqual(given, list(asked))
+                self.assertEqual(given, asked)
                 self.assert_told(call(BASE, *given), want)
 
     def test_what_was_handed_in_and_changed_leaves_what_was_told(self):
@@ -102,7 +127,7 @@ class OwnListsTest(RefusalCase):
             with self.subTest(call=call.__name__, asked=asked):
                 want = call(BASE, *copied(asked))
                 told = call(BASE, *given)
-                spoil([part for part in given if isinstance(part, list)])
+                spoil(lists_in(given))
                 self.assert_told(told, want)
 
     def test_one_list_handed_in_twice(self):

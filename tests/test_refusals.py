@@ -1,7 +1,6 @@
 """Point 5: what is refused first, of every function that takes figures."""
 
 import itertools
-import random
 import unittest
 
 from restfigures.change import put_in, taken_out
@@ -9,7 +8,9 @@ from restfigures.deeds import added, multiplied, quotient, rest, scaled, taken, 
 from restfigures.digits import compared, digits, sign
 from restfigures.errors import BadBase, BadDivisor, BadFigure, BadPlace, TooGreat, Wrong
 from restfigures.figures import number_of
-from tests.helpers import GREAT_BASES, RefusalCase, ends, fits_by_words, made_wrong, rests
+from restfigures.tables import row_product, table_product
+from restfigures.texts import figure_text, written
+from tests.helpers import GREAT_BASES, RefusalCase, ends, fits_by_words, no_figures, rests, wrong_figures
 
 BASES = (
     ((2,), (3,)),
@@ -49,36 +50,28 @@ OF_ONE = (
     (taken_out, ([10],)),
     (taken_out, ([0],)),
     (taken_out, ([0, 1],)),
+    (written, ()),
 )
 
-OF_TWO = (compared, added, taken, multiplied)
+
+def row_product_of_one(base, one, other):
+    return row_product(base, [one], [other])
 
 
-def no_figures(base):
-    """Lists that are no figures: too long, too short, empty, or with a rest that is its divisor, more, or below 0."""
-    one = rests(base, 1)
-    told = [[], one[:-1], one[1:], one + [0], [0] + one, one + one, [0] * 1000, one[:len(base[0])]]
-    for place, divisor in enumerate(base[0] + base[1]):
-        for off in (divisor, divisor + 1, -1, 10 ** 60 - 1, 1 - 10 ** 60):
-            figure = rests(base, 1)
-            figure[place] = off
-            told.append(figure)
-    # No figure, and not right either by the rests at the other places.
-    told.append([0] + one[1:-1] + [-1])
-    return told
+def row_product_of_three(base, one, other):
+    return row_product(base, [rests(base, 0), one, rests(base, 1)], [rests(base, 1), rests(base, 0), other])
 
 
-def wrong_figures(base):
-    """Figures that are not right: one place wrong, each in turn, all spare ones wrong, and numbers one beyond."""
-    source = random.Random(5)
-    kept = len(base[0])
-    count = kept + len(base[1])
-    low, high = ends(base)
-    told = [rests(base, low - 1), rests(base, high + 1)]
-    for number in (low, 0, 1, high):
-        told += [made_wrong(source, base, number, [place]) for place in range(count)]
-        told.append(made_wrong(source, base, number, range(kept, count)))
-    return told
+def table_product_of_one(base, one, other):
+    return table_product(base, [[one]], [[other]])
+
+
+def table_product_of_two(base, one, other):
+    return table_product(base, [[rests(base, 0)] * 2, [one, rests(base, 1)]], [[other, rests(base, 0)]] * 2)
+
+
+OF_TWO = (compared, added, taken, multiplied, row_product_of_one, row_product_of_three, table_product_of_one,
+          table_product_of_two)
 
 
 class OfOneFigureTest(RefusalCase):
@@ -111,6 +104,20 @@ class OfOneFigureTest(RefusalCase):
                     self.assert_refused(error, call, base, figure, *behind)
         self.assert_refused(TooGreat, taken_out, base, rests(base, 5), [0])
         self.assert_refused(TooGreat, turned, base, rests(base, 5))
+
+
+class OfAnyFigureTest(RefusalCase):
+    def test_no_figure_has_no_text(self):
+        for base in BASES:
+            for figure in no_figures(base):
+                with self.subTest(base=base, figure=figure[:12]):
+                    self.assert_refused(BadFigure, figure_text, base, figure)
+
+    def test_a_figure_that_is_not_right_has_one(self):
+        for base in BASES:
+            for figure in wrong_figures(base):
+                with self.subTest(base=base, figure=figure):
+                    self.assertIs(type(figure_text(base, figure)), str)
 
 
 class OfTwoFiguresTest(RefusalCase):
